@@ -1,0 +1,68 @@
+// Package slots: policies that say where an item is best put: see DOC.md.
+package slots
+
+import (
+	"slots/api"
+	"slots/check"
+	"slots/plain"
+	"slots/syntax"
+)
+
+// Store is some bins, with a policy.
+type Store struct{}
+
+// Print tells a policy in its plain form (P3).
+func Print(policy string) (string, api.Errno, int) {
+	read, err, place := syntax.Read(policy)
+	if err != api.OK {
+		return "", err, place
+	}
+	return plain.Text(read), api.OK, 0
+}
+
+// Check tells what is wrong with a policy (P4).
+func Check(policy string) (api.Errno, int) {
+	read, err, place := syntax.Read(policy)
+	if err != api.OK {
+		return err, place
+	}
+	return check.Errors(read)
+}
+
+// Compile makes an image of a policy (P7).
+func Compile(policy string) (string, api.Errno, int) { return "", api.OK, 0 }
+
+// Verify tells whether some bytes are an image (P5).
+func Verify(image string) api.Errno { return api.OK }
+
+// Run runs an image for an item and a bin (P6).
+func Run(image string, item api.Item, bin api.Bin) (api.Result, api.Errno) {
+	return api.Result{}, api.OK
+}
+
+// New makes a store without bins and without a policy (P8).
+func New() *Store { return nil }
+
+// Load takes a policy (P9).
+func (s *Store) Load(policy string) (api.Errno, int) { return api.OK, 0 }
+
+// LoadImage takes an image (P9).
+func (s *Store) LoadImage(image string) api.Errno { return api.OK }
+
+// Add puts a bin into the store (P8).
+func (s *Store) Add(bin api.Bin) api.Errno { return api.OK }
+
+// Remove takes an empty bin out of the store (P8).
+func (s *Store) Remove(id int) api.Errno { return api.OK }
+
+// Put fills a bin (P8).
+func (s *Store) Put(id int, n int) api.Errno { return api.OK }
+
+// Pick empties a bin (P8).
+func (s *Store) Pick(id int, n int) api.Errno { return api.OK }
+
+// Bins tells all bins (P8).
+func (s *Store) Bins() []api.Bin { return nil }
+
+// Rank tells the best places for an item (P10).
+func (s *Store) Rank(item api.Item, k int) api.Ranking { return api.Ranking{} }

@@ -4,7 +4,10 @@ package slots
 import (
 	"slots/api"
 	"slots/check"
+	"slots/machine"
 	"slots/plain"
+	"slots/program"
+	"slots/stock"
 	"slots/syntax"
 )
 
@@ -33,11 +36,25 @@ func Check(policy string) (api.Errno, int) {
 func Compile(policy string) (string, api.Errno, int) { return "", api.OK, 0 }
 
 // Verify tells whether some bytes are an image (P5).
-func Verify(image string) api.Errno { return api.OK }
+func Verify(image string) api.Errno {
+	if !program.IsImage(image) {
+		return api.ErrImage
+	}
+	return api.OK
+}
 
 // Run runs an image for an item and a bin (P6).
 func Run(image string, item api.Item, bin api.Bin) (api.Result, api.Errno) {
-	return api.Result{}, api.OK
+	if !program.IsImage(image) {
+		return api.Result{}, api.ErrImage
+	}
+	if !stock.IsItem(item) {
+		return api.Result{}, api.ErrItem
+	}
+	if !stock.IsBin(bin) {
+		return api.Result{}, api.ErrBin
+	}
+	return machine.Run(image, item, bin), api.OK
 }
 
 // New makes a store without bins and without a policy (P8).

@@ -23,21 +23,11 @@ func Errors(p syntax.Policy) (api.Errno, int) {
 	return api.OK, 0
 }
 
-// letOf tells the index of the first LET of a name; len(lets), if there is none.
-func letOf(lets []syntax.Let, name string) int {
-	for i := 0; i < len(lets); i++ {
-		if lets[i].Name.Text == name {
-			return i
-		}
-	}
-	return len(lets)
-}
-
 // names tells true; or false and the place of the first NAME that is there already or not there yet.
 func names(p syntax.Policy) (bool, int) {
 	for i := 0; i < len(p.Lets); i++ {
 		name := p.Lets[i].Name
-		if letOf(p.Lets, name.Text) < i {
+		if syntax.LetOf(p.Lets, name.Text) < i {
 			return false, name.Place
 		}
 		ok, place := namesOf(p, p.Lets[i].Value, i)
@@ -62,7 +52,7 @@ func names(p syntax.Policy) (bool, int) {
 func namesOf(p syntax.Policy, e syntax.Expr, ahead int) (bool, int) {
 	for i := e.From; i < e.Behind && i < len(p.Nodes); i++ {
 		t := p.Nodes[i].Token
-		if t.Kind == token.Name && letOf(p.Lets, t.Text) >= ahead {
+		if t.Kind == token.Name && syntax.LetOf(p.Lets, t.Text) >= ahead {
 			return false, t.Place
 		}
 	}
@@ -97,7 +87,7 @@ func partsOfNode(p syntax.Policy, t token.Token, ofLets []int) int {
 	if t.Kind != token.Name {
 		return 1
 	}
-	let := letOf(p.Lets, t.Text)
+	let := syntax.LetOf(p.Lets, t.Text)
 	return at(ofLets, let)
 }
 

@@ -89,7 +89,7 @@ func (l *looker) kindOfNode(node syntax.Node) int {
 }
 
 func (l *looker) kindOfName(name string) int {
-	let := letOf(l.policy.Lets, name)
+	let := syntax.LetOf(l.policy.Lets, name)
 	if let >= len(l.policy.Lets) {
 		return noKind
 	}

@@ -4,6 +4,7 @@ package slots
 import (
 	"slots/api"
 	"slots/check"
+	"slots/compile"
 	"slots/machine"
 	"slots/plain"
 	"slots/program"
@@ -25,15 +26,31 @@ func Print(policy string) (string, api.Errno, int) {
 
 // Check tells what is wrong with a policy (P4).
 func Check(policy string) (api.Errno, int) {
+	_, err, place := readSound(policy)
+	return err, place
+}
+
+// readSound reads a policy with which nothing is wrong; else it tells what is, and where.
+func readSound(policy string) (syntax.Policy, api.Errno, int) {
 	read, err, place := syntax.Read(policy)
 	if err != api.OK {
-		return err, place
+		return syntax.Policy{}, err, place
 	}
-	return check.Errors(read)
+	err, place = check.Errors(read)
+	if err != api.OK {
+		return syntax.Policy{}, err, place
+	}
+	return read, api.OK, 0
 }
 
 // Compile makes an image of a policy (P7).
-func Compile(policy string) (string, api.Errno, int) { return "", api.OK, 0 }
+func Compile(policy string) (string, api.Errno, int) {
+	read, err, place := readSound(policy)
+	if err != api.OK {
+		return "", err, place
+	}
+	return compile.Image(read), api.OK, 0
+}
 
 // Verify tells whether some bytes are an image (P5).
 func Verify(image string) api.Errno {

@@ -73,3 +73,13 @@ func (n Node) Binding() int {
 	}
 	return BindsAsUnit
 }
+
+// LetOf tells the index of the first LET of a name; len(lets), if there is none.
+func LetOf(lets []Let, name string) int {
+	for i := 0; i < len(lets); i++ {
+		if lets[i].Name.Text == name {
+			return i
+		}
+	}
+	return len(lets)
+}

@@ -8,12 +8,20 @@ import (
 	"slots/machine"
 	"slots/plain"
 	"slots/program"
+	"slots/rank"
+	"slots/shelf"
 	"slots/stock"
 	"slots/syntax"
 )
 
-// Store is some bins, with a policy.
-type Store struct{}
+// nothing stands for the image while none is loaded: no image is empty.
+const nothing = ""
+
+// Store is some bins, with a policy: of that it keeps the image, which ends as the policy says.
+type Store struct {
+	bins  []api.Bin
+	image string
+}
 
 // Print tells a policy in its plain form (P3).
 func Print(policy string) (string, api.Errno, int) {
@@ -75,28 +83,78 @@ func Run(image string, item api.Item, bin api.Bin) (api.Result, api.Errno) {
 }
 
 // New makes a store without bins and without a policy (P8).
-func New() *Store { return nil }
+func New() *Store { return &Store{} }
 
 // Load takes a policy (P9).
-func (s *Store) Load(policy string) (api.Errno, int) { return api.OK, 0 }
+func (s *Store) Load(policy string) (api.Errno, int) {
+	image, err, place := Compile(policy)
+	if err != api.OK {
+		return err, place
+	}
+	s.image = image
+	return api.OK, 0
+}
 
 // LoadImage takes an image (P9).
-func (s *Store) LoadImage(image string) api.Errno { return api.OK }
+func (s *Store) LoadImage(image string) api.Errno {
+	if !program.IsImage(image) {
+		return api.ErrImage
+	}
+	s.image = image
+	return api.OK
+}
 
 // Add puts a bin into the store (P8).
-func (s *Store) Add(bin api.Bin) api.Errno { return api.OK }
+func (s *Store) Add(bin api.Bin) api.Errno {
+	bins, err := shelf.Add(s.bins, bin)
+	if err == api.OK {
+		s.bins = bins
+	}
+	return err
+}
 
 // Remove takes an empty bin out of the store (P8).
-func (s *Store) Remove(id int) api.Errno { return api.OK }
+func (s *Store) Remove(id int) api.Errno {
+	bins, err := shelf.Remove(s.bins, id)
+	if err == api.OK {
+		s.bins = bins
+	}
+	return err
+}
 
 // Put fills a bin (P8).
-func (s *Store) Put(id int, n int) api.Errno { return api.OK }
+func (s *Store) Put(id int, n int) api.Errno {
+	bins, err := shelf.Put(s.bins, id, n)
+	if err == api.OK {
+		s.bins = bins
+	}
+	return err
+}
 
 // Pick empties a bin (P8).
-func (s *Store) Pick(id int, n int) api.Errno { return api.OK }
+func (s *Store) Pick(id int, n int) api.Errno {
+	bins, err := shelf.Pick(s.bins, id, n)
+	if err == api.OK {
+		s.bins = bins
+	}
+	return err
+}
 
 // Bins tells all bins (P8).
-func (s *Store) Bins() []api.Bin { return nil }
+func (s *Store) Bins() []api.Bin {
+	return shelf.Copy(s.bins)
+}
 
 // Rank tells the best places for an item (P10).
-func (s *Store) Rank(item api.Item, k int) api.Ranking { return api.Ranking{} }
+func (s *Store) Rank(item api.Item, k int) api.Ranking {
+	if s.image == nothing {
+		return api.Ranking{Err: api.ErrNone}
+	}
+	if !stock.IsItem(item) {
+		return api.Ranking{Err: api.ErrItem}
+	}
+	if k < 0 {
+		return api.Ranking{Err: api.ErrArg}
+	}
+	return rank.Best(s.image, item, s.bins, k)
+}
